@@ -1,0 +1,1 @@
+"""Truetouch: conductors' books and programs over rung rows, for all callings, slips and mishearings."""

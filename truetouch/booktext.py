@@ -1,0 +1,42 @@
+"""The lines of a book."""
+
+from truetouch.books import GREATEST_STATE, Book
+from truetouch.forms import GREATEST_STAGE
+from truetouch.wordlines import LineReader, write_places
+
+
+def write_book(book):
+    """The lines of a book."""
+    return tuple([" ".join(entry_words(entry)) for entry in book])
+
+
+def entry_words(entry):
+    """The words of the line of an entry."""
+    state, wants, letter, onward = entry
+    words = ["entry", str(state), letter, str(onward)]
+    for bell, places in wants:
+        words.append(str(bell))
+        words.append(write_places(places))
+    return words
+
+
+def read_book(method, lines):
+    """The book over the method that is written in the lines."""
+    reader = LineReader(lines)
+    entries = []
+    while reader.has_more():
+        entries.append(read_entry(reader))
+    return Book(method, entries)
+
+
+def read_entry(reader):
+    """The entry that is written in the next line."""
+    reader.begin("entry")
+    state = reader.take_number(0, GREATEST_STATE)
+    letter = reader.take_letter()
+    onward = reader.take_number(0, GREATEST_STATE)
+    wants = []
+    while reader.has_word():
+        bell = reader.take_number(1, GREATEST_STAGE)
+        wants.append((bell, reader.take_places()))
+    return (state, wants, letter, onward)
