@@ -82,3 +82,12 @@ def judge_change(change, stage):
         raise BadStage(stage)
     if not is_change(change, stage):
         raise BadChange(change)
+
+
+def judge_different(told, stage):
+    """Raises the error that is due if these are not different changes of the stage."""
+    seen = {}
+    for change in told:
+        if not is_change(change, stage) or tuple(change) in seen:
+            raise BadChange(change)
+        seen[tuple(change)] = True

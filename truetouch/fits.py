@@ -1,11 +1,10 @@
 """Fits: the rows and changes that can have been rung, when a few rows were heard in part."""
 
-from truetouch.changes import change_move, changes
+from truetouch.changes import change_move, changes, judge_different
 from truetouch.errors import BadChange, BadHeard, BadStage, TooMany
 from truetouch.forms import as_tuples, is_stage, is_tuple, is_tuple_of
 from truetouch.moves import compose, rows_of_stage
 from truetouch.patterns import fits_pattern, is_pattern
-from truetouch.reach import judge_different
 
 MOST_BELLS = 6
 LEAST_HEARD = 2
@@ -87,9 +86,11 @@ def last_lead(row, onward, ways):
 
 def lead_behind(start, lead, onward, ways):
     """The changes of the next fit from this start, None if there is none."""
+    row = start
     rows = [start]
     for change in lead:
-        rows.append([led for told, led in onward[rows[-1]] if told == change][0])
+        row = [led for told, led in onward[row] if told == change][0]
+        rows.append(row)
     for number in range(len(lead) - 1, -1, -1):
         for change, led in steps_from(rows[number], onward, ways[number + 1]):
             if change > lead[number]:
@@ -128,4 +129,4 @@ def judge_allowed(stage, allowed):
         return
     if not is_tuple(allowed) or len(allowed) == 0:
         raise BadChange(allowed)
-    judge_different(stage, allowed)
+    judge_different(allowed, stage)

@@ -1,7 +1,7 @@
 """Reached rows: where the words of a menu lead."""
 
-from truetouch.changes import change_move, is_change
-from truetouch.errors import BadChange, BadMenu, BadRow, BadStage, TooMany, Unreached
+from truetouch.changes import change_move, judge_different
+from truetouch.errors import BadMenu, BadRow, BadStage, TooMany, Unreached
 from truetouch.forms import as_tuples, is_letter, is_stage, is_tuple_of
 from truetouch.moves import compose, step_between
 from truetouch.paths import farthest_rows, least_words, menu_of_method
@@ -109,13 +109,4 @@ def judge_changes(stage, changes):
         raise BadStage(stage)
     if not is_tuple_of(changes, 1, MOST_PAIRS):
         raise BadMenu(-1)
-    judge_different(stage, changes)
-
-
-def judge_different(stage, changes):
-    """Raises the error that is due if these are not different changes of the stage."""
-    seen = {}
-    for change in changes:
-        if not is_change(change, stage) or tuple(change) in seen:
-            raise BadChange(change)
-        seen[tuple(change)] = True
+    judge_different(changes, stage)
