@@ -37,7 +37,7 @@ class CallingTexts(TouchCase):
     def test_read(self):
         for text, calling in [("", ""), ("a", "a"), ("pbz", "pbz"), ("2p", "pp"), ("99a", "a" * 99), ("2(ab)", "abab"),
                               ("a2bc", "abbc"), ("2(a3(bc))d", "abcbcbcabcbcbcd"), ("2(a)", "aa"), ("3(2(p))", "pppppp"),
-                              ("2(2(2(2(2(2(a))))))", "a" * 64), ("10b", "b" * 10), ("4(99a)4b", ("a" * 99) * 4 + "bbbb")]:
+                              ("2(2(2(2(2(2(a))))))", "a" * 64), ("2(a)" * 7, "a" * 14), ("10b", "b" * 10), ("4(99a)4b", ("a" * 99) * 4 + "bbbb")]:
             self.assertEqual(read_calling(text), calling, text)
 
     def test_bad_texts(self):
@@ -45,7 +45,7 @@ class CallingTexts(TouchCase):
                          ("(a)", 0), ("2()", 2), ("2(", 2), ("2(a", 3), ("a)", 1), (")", 0), ("2(a))", 4), ("A", 0),
                          ("a b", 1), ("a-", 1), ("2 a", 1), ("2-", 1), ("2(2()a)", 4), ("2(2)", 3), ("23(a", 4),
                          ("2(2(2(2(2(2(2(a)))))))", 13), ("2(1a)", 2), ("a.b", 1), ("-", 0), (" ", 0),
-                         ("2(2(2(2(2(2(100(a)))))))", 12), ("a1000a", 1)]:
+                         ("2(2(2(2(2(2(100(a)))))))", 12), ("a1000a", 1), ("2(a)2(2(2(2(2(2(2(a)))))))", 17)]:
             self.assertEqual(self.raises(BadText, [at], read_calling, text).at, at, text)
         for thing in (None, 3, ("a",), ["a"], b"a"):
             self.raises(BadText, [-1], read_calling, thing)

@@ -54,6 +54,8 @@ class Clashes(TouchCase):
             self.raises(BadLetter, [letter], falseness.clash, letter, "?", (1, 2, 3, 4))
             self.raises(BadLetter, [letter], falseness.clash, "b", letter, (1, 2, 3, 4))
             self.raises(BadLetter, [letter], falseness.own, letter)
+        for thing in ("b", "bp", ("b",), ["b", "p", "s"], None):
+            self.raises(BadLetter, [thing], lambda: falseness[thing])
 
 
 class Truths(TouchCase):

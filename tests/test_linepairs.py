@@ -99,7 +99,7 @@ class Tables(TouchCase):
         for told, wanted in [((), -1), (table[1:], -1), (((1, True),) + table[1:], -1), (((1, 1, 1),) + table[1:], -1),
                              (table + ((1, 2),), 3), (((2, 1),) + table, 0), (table + ((1, 5),), 3),
                              (table + ((3, 4),), 3), (table + (None,), 3), (("11",) + table, 0),
-                             (table + ((4, 4),), 3), (table + ((True, 1),), 3)]:
+                             (table + ((4, 4),), 3), (table + ((True, 1),), 3), (table + ((1,),), 3), (table + ((0, 0),), 3), (((0, 1),) + table, 0)]:
             self.assertEqual(self.judged(told), wanted, told)
         for left_out in (1, 2):
             rest = table[:left_out] + table[left_out + 1:]

@@ -62,7 +62,8 @@ class Methods(TouchCase):
         self.assertFalse(LITTLE != again)
         self.assertFalse(LITTLE == Method(4, LITTLE.plain, LITTLE.calls[::-1]))
         self.assertFalse(LITTLE == Method(4, LITTLE.plain))
-        self.assertFalse(Method(4, ((3, 4),)) == Method(5, ((3, 4, 5),)))
+        self.assertFalse(Method(4, LITTLE.plain[::-1], LITTLE.calls) == LITTLE)
+        self.assertFalse(Method(3, ((1, 2, 3),)) == Method(5, ((1, 2, 3),)))
         for thing in (None, 4, "bps", (4, LITTLE.plain, LITTLE.calls)):
             self.assertIs(LITTLE == thing, False)
 

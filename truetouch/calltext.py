@@ -3,7 +3,7 @@
 from truetouch.callings import MOST_LETTERS
 from truetouch.errors import BadCalling, BadText, TooLong
 from truetouch.folding import folded, repeats
-from truetouch.forms import DIGITS, is_letter
+from truetouch.forms import is_letter
 from truetouch.textreader import TextReader
 
 MOST_TIMES = 99
@@ -63,7 +63,7 @@ class CallReader(TextReader):
     def one_item(self):
         """Reads one item."""
         times = 1
-        if self.sign() != "" and self.sign() in DIGITS:
+        if self.digits() != "":
             times = self.take_number(2, MOST_TIMES)
             if self.sign() == "(":
                 self.go_in()

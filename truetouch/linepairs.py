@@ -89,5 +89,5 @@ def is_closed(first, second, pair, told):
     """Whether both places of the pair are equal, and so is all that is behind it, which is told."""
     if pair[0] != pair[1]:
         return False
-    behind = [pair_behind(first, second, pair, letter) for letter in first]
-    return all([onward is not None and onward in told for onward in behind])
+    # Where the works differ, what is behind is None, which is never told.
+    return all([pair_behind(first, second, pair, letter) in told for letter in first])
