@@ -1,9 +1,9 @@
 """Promises 16, 17 and the joining of 20: books, what they bear, and their lines."""
 
-import random
 import unittest
 
 from tests.asserts import TouchCase
+from tests.booksamples import followers_by_trying, some_entries
 from tests.samples import FIVE, LITTLE, callings, lead_of, listed, rung, shuffled_rows, some_method, spoil
 from truetouch.books import Book
 from truetouch.booktext import read_book, write_book
@@ -16,29 +16,6 @@ LINES = ("entry 0 b 1 4 24", "entry 0 p 0 4 13", "entry 1 p 0")
 ENTRIES = ((0, ((4, (2, 4)),), "b", 1), (0, ((4, (1, 3)),), "p", 0), (1, (), "p", 0))
 EXAMPLE = Book(LITTLE, ENTRIES)
 PLAIN = (0, (), "p", 0)
-
-
-def some_entries(seed, method, many):
-    chance = random.Random(seed)
-    entries = []
-    for _ in range(many):
-        bells = sorted(chance.sample(range(1, method.stage + 1), chance.choice((0, 0, 1, 1, 2))))
-        wants = tuple((bell, tuple(sorted(chance.sample(range(1, method.stage + 1), chance.randint(1, method.stage)))))
-                      for bell in bells)
-        entries.append((chance.randint(0, 2), wants, chance.choice(method.letters), chance.randint(0, 2)))
-    return tuple(entries)
-
-
-def followers_by_trying(method, entries, standing):
-    state, row = standing
-    found = set()
-    for at, wants, letter, onward in entries:
-        if at == state and all(row[place - 1] != bell for bell, places in wants
-                               for place in range(1, method.stage + 1) if place not in places):
-            led = rung(method, letter, row)[1][-1]
-            home = led == tuple(range(1, method.stage + 1))
-            found.add((letter, (-1 if home else onward, led)))
-    return tuple(sorted(found))
 
 
 def bears_by_trying(method, entries, calling):

@@ -45,6 +45,11 @@ def functions(tree):
     return [node for node in ast.walk(tree) if isinstance(node, ast.FunctionDef)]
 
 
+def is_from_library(node):
+    """Whether an import is one of the few that may come from outside of the package."""
+    return node.module == "math" and all(alias.name in ("gcd", "lcm", "isqrt") for alias in node.names)
+
+
 def is_generator(function):
     return any(isinstance(node, (ast.Yield, ast.YieldFrom)) for node in ast.walk(function))
 
@@ -89,7 +94,7 @@ class Language(unittest.TestCase):
                 else:
                     self.assertIsInstance(node, bound, name)
                     if isinstance(node, ast.ImportFrom):
-                        self.assertTrue(node.module.startswith("truetouch."), name)
+                        self.assertTrue(node.module.startswith("truetouch.") or is_from_library(node), name)
                         self.assertTrue(all(alias.asname is None for alias in node.names))
                         names += [alias.name for alias in node.names]
                     else:
@@ -105,7 +110,7 @@ class Language(unittest.TestCase):
                     [target.id for target in node.targets] if isinstance(node, ast.Assign)
                     else [node.name] if isinstance(node, (ast.FunctionDef, ast.ClassDef)) else [])]
         for name, tree in trees():
-            imports = [node for node in tree.body if isinstance(node, ast.ImportFrom)]
+            imports = [node for node in tree.body if isinstance(node, ast.ImportFrom) and not is_from_library(node)]
             needs["truetouch." + name[:-3]] = [node.module for node in imports]
             for node in imports:
                 for alias in node.names:
@@ -123,6 +128,33 @@ class Language(unittest.TestCase):
                 if isinstance(node, ast.ImportFrom):
                     for alias in node.names:
                         self.assertIn(alias.name, used, name)
+
+    def test_names_from_outside_are_only_called(self):
+        for name, tree in trees():
+            taken = [alias.name for node in tree.body if isinstance(node, ast.ImportFrom) and is_from_library(node)
+                     for alias in node.names]
+            called = [node.func for node in ast.walk(tree) if isinstance(node, ast.Call) and not node.keywords]
+            for node in ast.walk(tree):
+                if isinstance(node, ast.Name) and node.id in taken:
+                    self.assertIn(node, called, name)
+
+    def test_stars_stand_before_names_alone(self):
+        for name, tree in trees():
+            for node in ast.walk(tree):
+                if isinstance(node, ast.Call):
+                    for told in node.args:
+                        if isinstance(told, ast.Starred):
+                            self.assertIsInstance(told.value, (ast.Name, ast.Attribute), name)
+                if isinstance(node, ast.Set):
+                    self.assertFalse(any(isinstance(told, ast.Starred) for told in node.elts), name)
+
+    def test_generators_are_not_kept(self):
+        made = {function.name for _, tree in trees() for function in functions(tree) if is_generator(function)}
+        for name, tree in trees():
+            for node in ast.walk(tree):
+                if isinstance(node, (ast.Return, ast.Assign)) and isinstance(node.value, ast.Call):
+                    told = node.value.func
+                    self.assertNotIn(getattr(told, "id", getattr(told, "attr", "")), made, name)
 
     def test_names(self):
         known = set(dir(builtins))

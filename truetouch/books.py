@@ -20,6 +20,7 @@ class Book:
         judge_entries(method, entries)
         self.method = method
         self.entries = as_tuples(entries)
+        self._at_state = entries_at_states(self.entries)
 
     @property
     def beginning(self):
@@ -49,6 +50,10 @@ class Book:
             standings = sorted(set(led))
         return len(standings) > 0
 
+    def entries_at(self, state):
+        """The entries that have this state, in order."""
+        return self._at_state.get(state, ())
+
     def without(self, number):
         """The book without the entry with this number."""
         if not is_within(number, 0, len(self.entries) - 1):
@@ -70,12 +75,20 @@ class Book:
         return Book(self.method, self.entries + other.entries)
 
 
+def entries_at_states(entries):
+    """For each state the entries that have it, in order."""
+    found = {}
+    for entry in entries:
+        found[entry[0]] = found.get(entry[0], ()) + (entry,)
+    return found
+
+
 def followers_of(book, state, row):
     """The followers of a standing that has been judged."""
     start = rounds_of(book.method.stage)
     led = []
-    for at, wants, letter, onward in book.entries:
-        if at == state and all([row.index(bell) + 1 in places for bell, places in wants]):
+    for _, wants, letter, onward in book.entries_at(state):
+        if all([row.index(bell) + 1 in places for bell, places in wants]):
             row_led = compose(row, book.method.head(letter))
             led.append((letter, (HOME_STATE if row_led == start else onward, row_led)))
     return tuple(sorted(set(led)))
@@ -120,3 +133,13 @@ def judge_standing(thing, stage):
 def is_standing(thing, stage):
     """Whether it is a pair of a state, or of the one at home, and a row of the stage."""
     return is_tuple_of(thing, 2, 2) and is_within(thing[0], HOME_STATE, GREATEST_STATE) and is_row(thing[1], stage)
+
+
+def standing_told(thing, stage):
+    """The standing that the thing is, with tuples alone, None if it is none."""
+    return (thing[0], tuple(thing[1])) if is_standing(thing, stage) else None
+
+
+def home_of(book):
+    """The standing at home."""
+    return (HOME_STATE, rounds_of(book.method.stage))

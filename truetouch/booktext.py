@@ -1,7 +1,6 @@
 """The lines of a book."""
 
 from truetouch.books import GREATEST_STATE, Book
-from truetouch.forms import GREATEST_STAGE
 from truetouch.wordlines import LineReader, write_places
 
 
@@ -37,6 +36,6 @@ def read_entry(reader):
     onward = reader.take_number(0, GREATEST_STATE)
     wants = []
     while reader.has_word():
-        bell = reader.take_number(1, GREATEST_STAGE)
+        bell = reader.take_bell()
         wants.append((bell, reader.take_places()))
     return (state, wants, letter, onward)

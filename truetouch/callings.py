@@ -1,7 +1,7 @@
 """Judges callings, and rings them."""
 
 from truetouch.errors import BadCalling
-from truetouch.moves import compose
+from truetouch.moves import compose, rounds_of
 
 MOST_LETTERS = 400
 
@@ -30,6 +30,11 @@ def rows_rung(method, calling, heads):
         for row in method.body(letter):
             rows.append(compose(head, row))
     return tuple(rows)
+
+
+def rung_from_rounds(method, calling):
+    """The rows that a calling, which may be of any length, rings from rounds."""
+    return rows_rung(method, calling, heads_rung(method, calling, rounds_of(method.stage)))
 
 
 def first_repeat(rows):

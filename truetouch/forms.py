@@ -2,6 +2,7 @@
 
 LEAST_STAGE = 3
 GREATEST_STAGE = 8
+LONGEST_NAME = 8
 DIGITS = "0123456789"
 
 
@@ -13,6 +14,11 @@ def is_integer(thing):
 def is_within(thing, low, high):
     """Whether it is an integer from low to high."""
     return is_integer(thing) and low <= thing <= high
+
+
+def is_rank(thing):
+    """Whether it is an integer from 0."""
+    return is_integer(thing) and thing >= 0
 
 
 def is_stage(thing):
@@ -33,6 +39,11 @@ def is_tuple_of(thing, low, high):
 def is_letter(thing):
     """Whether it is one letter from a to z."""
     return isinstance(thing, str) and len(thing) == 1 and "a" <= thing <= "z"
+
+
+def is_name(thing):
+    """Whether it is a string of 1 to 8 letters from a to z."""
+    return isinstance(thing, str) and 1 <= len(thing) <= LONGEST_NAME and all([is_letter(sign) for sign in thing])
 
 
 def is_ascending(thing, low, high):

@@ -14,3 +14,12 @@ def first_wrong(rights):
         if not right:
             return number
     return None
+
+
+def first_ranks(rows):
+    """For each thing the rank in the first of its rows; a row that does not have its form is None."""
+    ranks = {}
+    for row in rows:
+        if row is not None:
+            ranks.setdefault(row[0], row[1])
+    return ranks

@@ -2,7 +2,7 @@
 
 from truetouch.calltext import read_calling
 from truetouch.errors import BadLine, BadText, TooLong
-from truetouch.forms import DIGITS, GREATEST_STAGE, is_letter, number_told
+from truetouch.forms import DIGITS, GREATEST_STAGE, is_letter, is_name, number_told
 from truetouch.leadtext import read_lead
 
 EMPTY_CALLING = "-"
@@ -61,6 +61,15 @@ class LineReader:
     def take_number(self, low, high):
         """Takes an integer within the bounds."""
         return self.taken(number_told(self.look(), low, high))
+
+    def take_bell(self):
+        """Takes a bell of any stage."""
+        return self.take_number(1, GREATEST_STAGE)
+
+    def take_count(self, most):
+        """Takes an integer up to the most, or a name."""
+        word = self.look()
+        return self.taken(word if is_name(word) else number_told(word, 0, most))
 
     def take_letter(self, barred=""):
         """Takes a letter other than those barred."""
