@@ -4,7 +4,7 @@ import unittest
 
 from tests.asserts import TouchCase
 from tests.booksamples import followers_by_trying, some_entries
-from tests.samples import FIVE, LITTLE, callings, lead_of, listed, rung, shuffled_rows, some_method, spoil
+from tests.samples import FIVE, LITTLE, callings, lead_of, listed, shuffled_rows, some_method, spoil
 from truetouch.books import Book
 from truetouch.booktext import read_book, write_book
 from truetouch.errors import BadCalling, BadEntry, BadLine, NoStanding, TooMany, Unlike

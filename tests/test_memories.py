@@ -5,7 +5,7 @@ import random
 import unittest
 
 from tests.asserts import TouchCase
-from tests.samples import FIVE, LITTLE, THREE, repeat_of, rung, some_method
+from tests.samples import FIVE, LITTLE, THREE, callings, repeat_of, rung, some_method
 from tests.test_conductors import going
 from truetouch.conductors import Conductor
 from truetouch.errors import BadBell, BadCalling, BadMany, TooLong, TooMany
@@ -95,6 +95,11 @@ class Memories(TouchCase):
                 self.assertEqual(plain_needed(method, 1, calling), many, calling)
         self.assertEqual(len(conductor_for(method, 1, "pppbpppbpppb")), 4)
         self.assertIsNone(conductor_for(method, 1, "ppppb"))
+        for calling in callings("bp", 7):
+            self.assertEqual(memories_needed(method, 1, calling), plain_needed(method, 1, calling))
+        for calling in callings("bp", 5):
+            for bell in (2, 3, 4):
+                self.assertEqual(memories_needed(method, bell, calling), plain_needed(method, bell, calling))
 
     def test_the_calling_is_followed_beyond_its_rounds(self):
         # Whoever follows goes on whatever comes, also when the bells are round on the way.
@@ -165,6 +170,24 @@ class Least(TouchCase):
             self.assertEqual(plain_needed(method, bell, lesser), 2)
             self.assertEqual(least_memory(method, bell, 3), (1, wanted))
             self.assertEqual(plain_least(method, bell, 3), (1, wanted))
+
+    def test_many_memories(self):
+        self.assertEqual(least_memory(some_method(148), 5, 3), (3, "cpz"))
+        self.assertEqual(plain_least(some_method(148), 5, 3), (3, "cpz"))
+        # Sixteen callings of eight leads are true and come round, but four memories are not enough for any.
+        self.assertIsNone(least_memory(some_method(25), 1, 8))
+        self.assertIsNone(plain_least(some_method(25), 1, 8))
+        rounds = [calling for calling in true_callings(some_method(25), 8)
+                  if len(calling) == 8 and rung(some_method(25), calling)[1][-1] == (1, 2, 3, 4, 5)[:some_method(25).stage]]
+        self.assertEqual(len(rounds), 16)
+        method = some_method(806)
+        self.assertEqual(least_memory(method, 5, 10), (4, "czcpcpzpcp"))
+        self.assertEqual(memories_needed(method, 5, "czcpcpzpcp"), 4)
+        rounds = [calling for calling in true_callings(method, 10)
+                  if len(calling) == 10 and rung(method, calling)[1][-1] == (1, 2, 3, 4, 5)[:method.stage]]
+        self.assertEqual(rounds[0], "cpcpzpcpcz")
+        for calling in rounds[:rounds.index("czcpcpzpcp")]:
+            self.assertIsNone(memories_needed(method, 5, calling))
 
     def test_number_of_leads(self):
         for many in (0, 13, -1, True, None, "3", 10 ** 39):

@@ -103,7 +103,8 @@ class MemorySearch:
         if key in self.onward:
             return self.tries(self.onward[key])
         # Memories not yet used are all alike, so only the first of them is tried.
-        for memory in range(min(max(self.memories) + 2, self.many)):
+        fresh = max(self.memories) + 1
+        for memory in range(min(fresh + 1, self.many)):
             self.onward[key] = memory
             if self.tries(memory):
                 return True

@@ -15,7 +15,8 @@ def ranks_of(behind):
     ranks = {thing: 0 for thing in ready}
     at = 0
     while at < len(ready):
-        for thing in ahead[ready[at]]:
+        last = ready[at]
+        for thing in ahead[last]:
             waiting[thing] -= 1
             if waiting[thing] == 0:
                 ranks[thing] = 1 + max([ranks[other] for other in behind[thing]])
