@@ -7,6 +7,7 @@ both stay what they are.
 from truetouch.heads import Heads
 from truetouch.moves import compose
 from truetouch.outlines import Outline
+from truetouch.programs import variable_of
 
 
 class HeadMaps:
@@ -25,9 +26,9 @@ class HeadMaps:
     def of_statement(self, number, worths):
         """The map of the statement with this number, for these values."""
         statement = self.outline.told[number]
-        if statement[0] == "repeat":
-            count = worths[statement[1]] if isinstance(statement[1], str) else statement[1]
-            return self.of_passes(number, worths, count)
+        name = variable_of(statement)
+        if name is not None:
+            return self.of_passes(number, worths, worths[name])
         key = self.key(number, worths)
         if key not in self.kept:
             self.kept[key] = self.made(statement, self.outline.inner[number], worths)
@@ -38,9 +39,11 @@ class HeadMaps:
         return (number, tuple([worths[name] for name in self.outline.names_inside[number]]))
 
     def made(self, statement, inner, worths):
-        """The map of a statement other than a repeat."""
+        """The map of a statement that is no repeat with a variable."""
         if statement[0] == "call":
             return self.of_calling(statement[1])
+        if statement[0] == "repeat":
+            return self.repeated(self.of_body(inner[0], worths), statement[1])
         at_places = [row.index(statement[1]) + 1 in statement[2] for row in self.rows]
         first = self.of_body(inner[0], worths)
         if statement[0] == "until":
@@ -62,8 +65,18 @@ class HeadMaps:
             found = joined(found, self.of_statement(number, worths))
         return found
 
+    def repeated(self, body, times):
+        """The map of so many passes of a body."""
+        found = self.still()
+        while times > 0:
+            if times % 2 == 1:
+                found = joined(found, body)
+            body = joined(body, body)
+            times = times // 2
+        return found
+
     def of_passes(self, number, worths, times):
-        """The map of so many passes of the body of a repeat."""
+        """The map of so many passes of the body of a repeat with a variable; those of fewer are kept."""
         key = self.key(number, worths)
         if key not in self.kept_passes:
             self.kept_passes[key] = [self.still(), self.of_body(self.outline.inner[number][0], worths)]

@@ -83,10 +83,10 @@ def variable_of(statement):
     return statement[1] if statement[0] == "repeat" and isinstance(statement[1], str) else None
 
 
-def variables_of(statements):
-    """The variables of all statements, in order."""
+def variables_of(told):
+    """The variables of these statements, in order."""
     names = []
-    for statement in statements:
+    for statement in told:
         name = variable_of(statement)
         if name is not None:
             if name in names:

@@ -1,0 +1,83 @@
+"""Promise 1: what is passed as lists is taken for tuples, stays as it was, and is not held."""
+
+import copy
+import unittest
+
+from tests.asserts import TouchCase
+from tests.samples import LITTLE, listed, spoil
+from truetouch.allstarts import AllStarts, judge_starts
+from truetouch.allvalues import AllValues
+from truetouch.bookpairs import BookPair, judge_books
+from truetouch.books import Book
+from truetouch.canbooks import CanVerdict, judge_never
+from truetouch.conductors import Conductor
+from truetouch.keepsout import KeepsOut, judge_out
+from truetouch.methods import Method
+from truetouch.outlooks import Outlook
+from truetouch.programs import Program
+from truetouch.roundbooks import RoundVerdict, judge_round
+from truetouch.runs import run
+from truetouch.sheets import read_sheet
+from truetouch.slips import Ringing
+from truetouch.truebooks import TrueVerdict, judge_true
+
+PLAIN = Method(4, LITTLE.plain)
+# Plain leads up to the end, and a book in which they never come to an end that is home.
+ROUND = Book(PLAIN, ((0, (), "p", 0),))
+NEVER = Book(LITTLE, ((0, (), "s", 1), (1, ((2, (3,)),), "p", 2)))
+
+
+class Lists(TouchCase):
+
+    def check(self, deed, *arguments):
+        """The deed tells the same with lists for all tuples, and leaves these as they were; gives what it tells."""
+        told = deed(*arguments)
+        lists = [listed(argument) for argument in arguments]
+        before = copy.deepcopy([argument for argument in lists if isinstance(argument, (list, dict))])
+        self.assertEqual(deed(*lists), told)
+        self.assertEqual([argument for argument in lists if isinstance(argument, (list, dict))], before)
+        return told
+
+    def test_judged_tables(self):
+        conductor = Conductor(PLAIN, 2, ((("p", 0),) * 4,))
+        for deed, *arguments in [
+                (judge_round, ROUND, RoundVerdict(ROUND).table), (judge_never, NEVER, CanVerdict(NEVER).table),
+                (judge_out, NEVER, 1, (2,), KeepsOut(NEVER, 4, (1,)).table or CanVerdict(NEVER).table),
+                (judge_true, ROUND, TrueVerdict(ROUND).table), (judge_books, ROUND, ROUND, BookPair(ROUND, ROUND).table),
+                (judge_starts, conductor, AllStarts(conductor).table)]:
+            table = arguments[-1]
+            self.assertGreater(len(table), 1, deed)
+            self.check(deed, *arguments)
+            for number in range(len(table)):
+                self.check(deed, *arguments[:-1], table[:number] + table[number + 1:])
+                self.check(deed, *arguments[:-1], table[:number] + (None, table) + table[number:])
+
+    def test_calls(self):
+        conductor = Conductor(PLAIN, 2, ((("p", 0),) * 4,))
+        self.assertEqual(self.check(conductor, 0, (1, 2, 4, 3)), ("p", 0))
+        self.assertEqual(self.check(conductor.outcome, (4, 3, 2, 1)), ("round", "ppp"))
+        self.assertEqual(self.check(read_sheet, LITTLE, 2, (((2, 1, "b"),), 1)), "pppbp")
+        program = Program(LITTLE, (("repeat", "k", (("call", "p"),)),))
+        self.assertEqual(self.check(run, program, {"k": 3}), ("round", "ppp"))
+        self.assertEqual(self.check(AllValues(program).end_of, {"k": 3}), ("round", (1, 2, 3, 4)))
+        self.assertIs(self.check(lambda thing: thing in Outlook(ROUND), (0, (1, 2, 3, 4))), True)
+        self.assertEqual(self.check(lambda thing: Outlook(ROUND)[thing], (-1, (1, 2, 3, 4))), "ppp")
+
+    def test_what_is_kept(self):
+        for kind, told, name in [
+                (lambda thing: Conductor(LITTLE, 2, thing), ((("p", 0), ("b", 0), ("s", 0), ("p", 0)),), "table"),
+                (lambda thing: Program(LITTLE, thing), (("if", 2, (1, 3), (("call", "p"),), (("repeat", "k", ()),)),), "script"),
+                (lambda thing: Ringing(LITTLE, "pb", thing), (("crossed", 1, 3, (1, 4)), ("swapped", 1, 2, 3)), "slips")]:
+            lists = listed(told)
+            made = kind(lists)
+            self.assertEqual(lists, listed(told))
+            self.assertEqual(getattr(made, name), told)
+            spoil(lists)
+            self.assertEqual(getattr(made, name), told)
+            self.assertEqual(made, kind(told))
+        program = Program(LITTLE, [["repeat", "k", [["call", "p"]]]])
+        self.assertEqual(list(program.statements()), [("repeat", "k", (("call", "p"),)), ("call", "p")])
+
+
+if __name__ == "__main__":
+    unittest.main()
