@@ -9,6 +9,10 @@ LITTLE = Method(4, ((), (1, 4), (), (1, 4), (), (1, 4), (), (1, 2)), (("b", 7, (
 THREE = Method(3, ((1,), (3,)), (("b", 1, ((1, 2, 3),)), ("a", 0, ((3,),))))
 FIVE = Method(5, ((5,), (1,), (5,), (1, 2, 3)), (("b", 3, ((1,),)), ("s", 2, ((1, 4, 5), (3, 4, 5)))))
 
+# With 720 heads, and with more than 800.
+SIX = Method(6, ((1, 2),), (("b", 0, ((1, 6),)), ("s", 0, ((),))))
+SEVEN = Method(7, ((1, 2, 3),), (("b", 0, ((1,),)), ("s", 0, ((7,),))))
+
 
 def shuffled_rows(stage):
     return list(itertools.permutations(range(1, stage + 1)))

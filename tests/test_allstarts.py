@@ -5,17 +5,13 @@ import unittest
 
 from tests.asserts import TouchCase
 from tests.booksamples import spoilt_tables
-from tests.samples import listed, some_method
+from tests.samples import SEVEN, SIX, listed, some_method
 from tests.test_conductors import going, some_conductor
 from truetouch.allstarts import AllStarts, judge_starts
 from truetouch.conductors import Conductor
 from truetouch.errors import TooMany
 from truetouch.heads import Heads
 from truetouch.methods import Method
-
-# With 720 heads, and with more than 800.
-SIX = Method(6, ((1, 2),), (("b", 0, ((1, 6),)), ("s", 0, ((),))))
-SEVEN = Method(7, ((1, 2, 3),), (("b", 0, ((1,),)), ("s", 0, ((7,),))))
 
 
 def plain_verdict(conductor):

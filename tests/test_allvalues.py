@@ -5,8 +5,7 @@ import unittest
 
 from tests.asserts import TouchCase
 from tests.progsamples import PlainRun, all_values, some_program
-from tests.samples import LITTLE
-from tests.test_allstarts import SEVEN, SIX
+from tests.samples import LITTLE, SEVEN, SIX
 from tests.test_kinds import ALL_FIVE, SIZE_5, SIZE_9, SIZE_10, SIZE_56
 from truetouch.allvalues import AllValues
 from truetouch.errors import BadValue, TooMany, Unknown

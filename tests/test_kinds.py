@@ -5,8 +5,7 @@ import unittest
 
 from tests.asserts import TouchCase
 from tests.progsamples import PlainRun, some_program
-from tests.samples import LITTLE, THREE
-from tests.test_allstarts import SEVEN, SIX
+from tests.samples import LITTLE, SEVEN, SIX, THREE
 from truetouch.errors import TooMany
 from truetouch.heads import Heads
 from truetouch.kinds import kinds

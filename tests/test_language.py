@@ -226,8 +226,8 @@ class Language(unittest.TestCase):
                 if isinstance(node, ast.ClassDef):
                     for part in node.body:
                         if isinstance(part, ast.FunctionDef):
-                            told = [word.id for word in part.decorator_list if isinstance(word, ast.Name)]
-                            (properties if "property" in told else methods).add(part.name)
+                            told = [getattr(word, "id", getattr(word, "attr", "")) for word in part.decorator_list]
+                            (properties if "property" in told or "setter" in told else methods).add(part.name)
                 if isinstance(node, ast.Attribute) and isinstance(node.ctx, ast.Store):
                     attributes.add(node.attr)
             for function in functions(tree):

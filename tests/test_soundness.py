@@ -5,8 +5,7 @@ import unittest
 
 from tests.asserts import TouchCase
 from tests.progsamples import NAMES, Ended, PlainRun, all_values, some_script
-from tests.samples import LITTLE, repeat_of, rung, some_method
-from tests.test_allstarts import SEVEN, SIX
+from tests.samples import LITTLE, SEVEN, SIX, repeat_of, rung, some_method
 from tests.test_kinds import ALL_FIVE
 from truetouch.errors import TooMany
 from truetouch.heads import Heads

@@ -27,3 +27,9 @@ def rows_of_stage(stage):
     for _ in range(stage):
         rows = [row + (bell,) for row in rows for bell in range(1, stage + 1) if bell not in row]
     return rows
+
+
+def exchange(row, bell, other):
+    """The row in which two bells have exchanged their places."""
+    names = {bell: other, other: bell}
+    return tuple([names.get(told, told) for told in row])

@@ -3,8 +3,9 @@
 from truetouch.callings import heads_rung, judge_calling
 from truetouch.changes import change_move, is_change
 from truetouch.errors import BadSlip, NoSpot, TooMany
+from truetouch.exchanges import is_exchange
 from truetouch.forms import as_tuples, is_tuple, is_tuple_of, is_within
-from truetouch.moves import compose, inverse, rounds_of, step_between
+from truetouch.moves import compose, exchange, inverse, rounds_of, step_between
 from truetouch.touches import Touch
 
 MOST_SLIPS = 20
@@ -85,9 +86,7 @@ def swapped(row, told):
     """The row behind the swaps among these slips."""
     for word, _, *rest in told:
         if word == "swapped":
-            names = list(rounds_of(len(row)))
-            names[rest[0] - 1], names[rest[1] - 1] = rest[1], rest[0]
-            row = compose(names, row)
+            row = exchange(row, rest[0], rest[1])
     return row
 
 
@@ -130,7 +129,7 @@ def is_slip(thing, method, calling):
         return word == "mistaken" and rest[0] in method and rest[0] != calling[lead]
     if word == "crossed":
         return is_within(rest[0], 0, method.size - 1) and is_change(rest[1], method.stage)
-    return word == "swapped" and is_within(rest[0], 1, method.stage) and is_within(rest[1], rest[0] + 1, method.stage)
+    return word == "swapped" and is_exchange(rest, method.stage)
 
 
 def once_told(slip):
