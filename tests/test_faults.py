@@ -6,7 +6,7 @@ import unittest
 
 from tests.asserts import TouchCase
 from tests.bandsamples import lettered_method
-from tests.samples import LITTLE, SEVEN, callings, plain_changes, rung, some_method
+from tests.samples import LITTLE, SEVEN, callings, change_row, lead_of, plain_changes, some_method
 from truetouch.errors import BadKind
 from truetouch.faults import faults_of
 from truetouch.methods import Method
@@ -21,10 +21,10 @@ def plain_faults(method, kind, start):
     """The faults behind one lead that is rung from this head with one slip, by doing each change."""
     found = set()
     for called in method.letters:
-        lead = list(rung_lead(method, called))
+        lead = lead_of(method, called)
         meant = done(start, lead)
         if kind == "mistaken":
-            rows = [done(start, rung_lead(method, other)) for other in method.letters if other != called]
+            rows = [done(start, lead_of(method, other)) for other in method.letters if other != called]
         elif kind == "crossed":
             rows = [done(start, lead[:at] + [change] + lead[at + 1:])
                     for at in range(len(lead)) for change in plain_changes(method.stage)]
@@ -37,24 +37,9 @@ def plain_faults(method, kind, start):
     return tuple(sorted(found))
 
 
-def rung_lead(method, letter):
-    lead = list(method.plain)
-    for told, at, changes in method.calls:
-        if told == letter:
-            lead[at:at + len(changes)] = changes
-    return lead
-
-
 def done(row, lead):
     for change in lead:
-        told, place = list(row), 1
-        while place < len(told):
-            if place in change:
-                place += 1
-            else:
-                told[place - 1], told[place] = told[place], told[place - 1]
-                place += 2
-        row = tuple(told)
+        row = change_row(row, change)
     return row
 
 

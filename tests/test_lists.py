@@ -5,27 +5,35 @@ import unittest
 
 from tests.asserts import TouchCase
 from tests.samples import LITTLE, listed, spoil
+from truetouch.alike import RoundAlike, judge_round_pairs
 from truetouch.allstarts import AllStarts, judge_starts
 from truetouch.allvalues import AllValues
 from truetouch.bands import Band
+from truetouch.blind import Blind, judge_hopes
 from truetouch.bookpairs import BookPair, judge_books
 from truetouch.books import Book
 from truetouch.canbooks import CanVerdict, judge_never
+from truetouch.cheapest import Cheapest, judge_bounds
+from truetouch.clashes import ClashAlike, judge_clashes
 from truetouch.conductors import Conductor
 from truetouch.exchanges import exchanged, exchanges
 from truetouch.hearings import Hearing
 from truetouch.intime import InTime, judge_intime, mend_in_time
 from truetouch.keepsout import KeepsOut, judge_out
+from truetouch.journal import read_journal, taken_up
+from truetouch.means import Mean, judge_potentials
 from truetouch.mends import Mends
 from truetouch.methods import Method
 from truetouch.outlooks import Outlook
 from truetouch.practice import Practice, rehearsed
+from truetouch.prices import Prices
 from truetouch.programs import Program
 from truetouch.roundbooks import RoundVerdict, judge_round
 from truetouch.runs import run
 from truetouch.seeing import Seeing, judge_seeing
 from truetouch.sheets import read_sheet
 from truetouch.slips import Ringing
+from truetouch.sturdy import calling_bears
 from truetouch.truebooks import TrueVerdict, judge_true
 from truetouch.watchers import Watch, judge_watch
 
@@ -34,6 +42,9 @@ PLAIN = Method(4, LITTLE.plain)
 ROUND = Book(PLAIN, ((0, (), "p", 0),))
 NEVER = Book(LITTLE, ((0, (), "s", 1), (1, ((2, (3,)),), "p", 2)))
 BAND = Band(LITTLE, (("p", "b"),), 1)
+# A bob can always be rung for a plain lead, and leaves the head as it is.
+FREE = Band(LITTLE, (("p", "b"),), None)
+PRICES = Prices(LITTLE, (((1, None, None, None), 3), ((None, 2, None, None), -1)), (("p", 2),))
 
 
 class Lists(TouchCase):
@@ -55,7 +66,11 @@ class Lists(TouchCase):
                 (judge_true, ROUND, TrueVerdict(ROUND).table), (judge_books, ROUND, ROUND, BookPair(ROUND, ROUND).table),
                 (judge_starts, conductor, AllStarts(conductor).table), (judge_intime, LITTLE, InTime(LITTLE).table),
                 (judge_watch, LITTLE, (1, 2, 3), 1, Watch(LITTLE, (1, 2, 3), 1).table),
-                (judge_seeing, BAND, Seeing(BAND).table)]:
+                (judge_seeing, BAND, Seeing(BAND).table), (judge_hopes, FREE, (1, 4, 2, 3), Blind(FREE, (1, 4, 2, 3)).table),
+                (judge_round_pairs, LITTLE, LITTLE, RoundAlike(LITTLE, LITTLE).table),
+                (judge_clashes, LITTLE, LITTLE, ClashAlike(LITTLE, LITTLE).table),
+                (judge_bounds, PRICES, Cheapest(PRICES, 3).bounds),
+                (judge_potentials, PRICES, Mean(PRICES).mean, Mean(PRICES).potentials)]:
             table = arguments[-1]
             self.assertGreater(len(table), 1, deed)
             self.check(deed, *arguments)
@@ -84,6 +99,12 @@ class Lists(TouchCase):
         self.assertEqual(self.check(BAND.behind, ((1, 2, 3, 4), 1), "p"), (("p", ((1, 3, 4, 2), 1)),))
         self.assertEqual(self.check(Watch(LITTLE, (1, 2), 0).after, (("p", (1, 3)),)), (
             ((1, 3, 2, 4), 0), ((1, 3, 4, 2), 0)))
+        self.assertEqual(self.check(calling_bears, LITTLE, (("p", "b"),), "pppp"), 1)
+        self.assertEqual(self.check(PRICES.of_lead, (1, 2, 3, 4), "p"), 2 + 2 * 3 - 2)
+        self.assertEqual(self.check(Mean(PRICES).bound, (1, 2, 3, 4), 0), 0)
+        lines = ("method m", "method 3 1", "end", "strike m", "strike m")
+        self.assertEqual(self.check(taken_up, lines)[1], 4)
+        self.assertEqual(self.check(read_journal, lines[:4]).deeds, 2)
         self.assertIs(self.check(lambda thing: thing in Outlook(ROUND), (0, (1, 2, 3, 4))), True)
         self.assertEqual(self.check(lambda thing: Outlook(ROUND)[thing], (-1, (1, 2, 3, 4))), "ppp")
 
@@ -92,6 +113,8 @@ class Lists(TouchCase):
                 (lambda thing: Conductor(LITTLE, 2, thing), ((("p", 0), ("b", 0), ("s", 0), ("p", 0)),), "table"),
                 (lambda thing: Program(LITTLE, thing), (("if", 2, (1, 3), (("call", "p"),), (("repeat", "k", ()),)),), "script"),
                 (lambda thing: Band(LITTLE, thing, 1), (("p", "bs"), ("s", "b")), "hears"),
+                (lambda thing: Prices(LITTLE, thing), (((1, None, None, None), 3), ((None,) * 4, -1)), "rules"),
+                (lambda thing: Prices(LITTLE, (), thing), (("p", 3), ("b", -1)), "fees"),
                 (lambda thing: Ringing(LITTLE, "pb", thing), (("crossed", 1, 3, (1, 4)), ("swapped", 1, 2, 3)), "slips")]:
             lists = listed(told)
             made = kind(lists)

@@ -21,16 +21,19 @@ def entry_words(entry):
 
 def read_book(method, lines):
     """The book over the method that is written in the lines."""
-    reader = LineReader(lines)
+    return Book(method, entries_told(LineReader(lines), False))
+
+
+def entries_told(reader, is_closed):
+    """The entries that are written in the next lines, up to their end."""
     entries = []
-    while reader.has_more():
-        entries.append(read_entry(reader))
-    return Book(method, entries)
+    while reader.goes_on("entry", is_closed):
+        entries.append(take_entry(reader))
+    return entries
 
 
-def read_entry(reader):
-    """The entry that is written in the next line."""
-    reader.begin("entry")
+def take_entry(reader):
+    """The entry that is written in the rest of the line."""
     state = reader.take_number(0, GREATEST_STATE)
     letter = reader.take_letter()
     onward = reader.take_number(0, GREATEST_STATE)

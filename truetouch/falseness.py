@@ -14,12 +14,13 @@ class Falseness:
         self.method = method
         self._steps = {(first, second): steps_of_clash(method.body(first), method.body(second))
                        for first in method for second in method}
+        self._clashing = {pair: {move: True for move in steps} for pair, steps in self._steps.items()}
 
     def clash(self, first, second, move):
         """Whether the leads of the letters clash at this step."""
         for letter in (first, second):
             judge_letter(self.method, letter)
-        return tuple(move) in self._steps[first, second]
+        return tuple(move) in self._clashing[first, second]
 
     def own(self, letter):
         """Whether the lead of the letter rings a row twice."""

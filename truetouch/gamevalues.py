@@ -34,9 +34,9 @@ class Tally:
         self.steps_open = [[1 if opponent_begins else len(group) for group in told] for told in groups]
         self.groups_open = [len(told) if opponent_begins else 1 for told in groups]
         self.ahead = [[] for _ in groups]
-        for number, told in enumerate(groups):
-            for which, group in enumerate(told):
-                for member in group:
+        for number, choices in enumerate(groups):
+            for which, members in enumerate(choices):
+                for member in members:
                     self.ahead[member].append((number, which))
 
     def settled_by(self, member):

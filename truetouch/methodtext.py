@@ -16,20 +16,24 @@ def write_method(method):
 
 def read_method(lines):
     """The method that is written in the lines."""
-    reader = LineReader(lines)
+    stage, plain, calls = method_told(LineReader(lines), False)
+    return Method(stage, plain, calls)
+
+
+def method_told(reader, is_closed):
+    """The stage, the plain lead and the calls that are written in the next lines, up to their end."""
     reader.begin("method")
     stage = reader.take_number(LEAST_STAGE, GREATEST_STAGE)
     plain = reader.take_lead(stage)
     reader.finish()
     calls = []
-    while reader.has_more():
-        calls.append(read_call(reader, stage))
-    return Method(stage, plain, calls)
+    while reader.goes_on("call", is_closed):
+        calls.append(take_call(reader, stage))
+    return stage, plain, calls
 
 
-def read_call(reader, stage):
-    """The call that is written in the next line."""
-    reader.begin("call")
+def take_call(reader, stage):
+    """The call that is written in the rest of the line."""
     letter = reader.take_letter(Method.PLAIN)
     at = reader.take_number(0, MOST_CHANGES - 1)
     told = reader.take_lead(stage)

@@ -2,9 +2,12 @@
 
 from truetouch.calltext import fold_calling
 from truetouch.programs import MOST_COUNT, Program, bodies_of
-from truetouch.wordlines import LineReader, write_places
+from truetouch.wordlines import CLOSING, LineReader, write_places
 
 STATEMENT_WORDS = ("call", "repeat", "until", "if")
+# A script ends with the lines or with a word of its own.
+OPEN_SCRIPT = ()
+CLOSED_SCRIPT = ("script",)
 
 
 def write_program(program):
@@ -31,12 +34,12 @@ def statement_lines(statement):
     for body in others:
         if len(body) > 0:
             lines = lines + ["else"] + body_lines(body)
-    return lines + ["end"]
+    return lines + [CLOSING]
 
 
 def read_program(method, lines):
     """The program over the method that is written in the lines."""
-    return Program(method, read_script(LineReader(lines)))
+    return Program(method, script_told(LineReader(lines), False))
 
 
 class OpenStatement:
@@ -48,14 +51,14 @@ class OpenStatement:
 
     def firsts(self):
         """The words with which the next line can begin."""
-        if self.told == ():
+        if self.told == OPEN_SCRIPT:
             return STATEMENT_WORDS
         if len(self.bodies) > 1 and len(self.bodies[1]) == 0:
             # Behind an else stands at least one statement.
             return STATEMENT_WORDS
         if self.told[0] == "if" and len(self.bodies) == 1:
-            return STATEMENT_WORDS + ("else", "end")
-        return STATEMENT_WORDS + ("end",)
+            return STATEMENT_WORDS + ("else", CLOSING)
+        return STATEMENT_WORDS + (CLOSING,)
 
     def whole(self):
         """The statement, when all of it has been read."""
@@ -65,25 +68,26 @@ class OpenStatement:
         return self.told + bodies
 
 
-def read_script(reader):
-    """The statements that are written in all lines."""
-    # The script itself is never ended by a word.
-    opened = [OpenStatement(())]
-    while reader.has_more() or len(opened) > 1:
+def script_told(reader, is_closed):
+    """The statements that are written in the next lines, up to their end."""
+    script = OpenStatement(CLOSED_SCRIPT if is_closed else OPEN_SCRIPT)
+    opened = [script]
+    while opened and (is_closed or len(opened) > 1 or reader.has_more()):
         last = opened[-1]
         firsts = last.firsts()
         word = reader.begin(*firsts)
         if word == "else":
             last.bodies.append([])
-        elif word == "end":
+        elif word == CLOSING:
             opened.pop()
-            opened[-1].bodies[-1].append(last.whole())
+            if opened:
+                opened[-1].bodies[-1].append(last.whole())
         elif word == "call":
             last.bodies[-1].append((word, reader.take_calling()))
         else:
             opened.append(OpenStatement(read_head(reader, word)))
         reader.finish()
-    return tuple(opened[0].bodies[0])
+    return tuple(script.bodies[0])
 
 
 def read_head(reader, word):

@@ -32,7 +32,8 @@ class Spread:
         """The codes of the nodes to which the band can come from this one when the letter is called."""
         led = self.led[letter]
         if code not in led:
-            led[code] = [self.code(node) for _, node in self.band.behind(self.node_of[code], letter)]
+            told = self.band.behind(self.node_of[code], letter)
+            led[code] = [self.code(node) for _, node in told]
         return led[code]
 
     def all_behind(self, codes, letter):

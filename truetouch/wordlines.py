@@ -6,6 +6,8 @@ from truetouch.forms import DIGITS, GREATEST_STAGE, is_letter, is_name, number_t
 from truetouch.leadtext import read_lead
 
 EMPTY_CALLING = "-"
+# What stands in a journal ends with a line of this word; by itself it ends with the lines.
+CLOSING = "end"
 
 
 class LineReader:
@@ -35,6 +37,15 @@ class LineReader:
             raise BadLine(self.number, 0)
         self.at = 1
         return self.words[0]
+
+    def goes_on(self, first, is_closed):
+        """Whether one more line comes, which begins with this word; if not, the lines have come to their end."""
+        if not is_closed:
+            return self.has_more() and self.begin(first) == first
+        if self.begin(first, CLOSING) == first:
+            return True
+        self.finish()
+        return False
 
     def has_word(self):
         """Whether the line has a word that has not been taken."""
@@ -70,6 +81,11 @@ class LineReader:
         """Takes an integer up to the most, or a name."""
         word = self.look()
         return self.taken(word if is_name(word) else number_told(word, 0, most))
+
+    def take_name(self):
+        """Takes a name."""
+        word = self.look()
+        return self.taken(word if is_name(word) else None)
 
     def take_letter(self, barred=""):
         """Takes a letter other than those barred."""
