@@ -221,7 +221,7 @@ class Tables(TouchCase):
             node = (row, 0)
             others = [None, (), "hope", (node, node), ((row, 9),), ((row, True),), ((row, -1),), ((row[1:], 0),), (row,), ((rounds, 0),),
                       ((row, 0, 0),), ((rounds, 0), (rounds[::-1], 0)), ((rounds[::-1], 0), (rounds, 0)), ((rounds[::-1], 0),),
-                      (None,), ((row, None),), ((row, 1),)]
+                      (None,), ((row, None),), ((row, 1),), (node, None), (node, (row, 9)), (None, node)]
             others += list(table)
             for told in spoilt_tables(table, chance, others):
                 wanted = plain_judge(band, row, told)

@@ -82,7 +82,7 @@ class Means(TouchCase):
 
     def test_against_all_cycles(self):
         means, lengths = set(), set()
-        for prices in small_prices(200):
+        for prices in [*small_prices(200), *[some_prices(seed) for seed in (251, 313, 1184, 1348)]]:
             graph = PlainGraph(prices)
             told = Mean(prices)
             mean, cycle = graph.least()

@@ -228,7 +228,8 @@ class Tables(TouchCase):
             others = [None, (), "row", (first,), (first, -1), (first, True), (first, None), (first, 1, 2), ((), 1), (None, 1),
                       (first + first, 2), (first[::-1], 2), ((row,), 1), (((row, 9),), 1), (((row, True),), 1),
                       (((row, 0), (row[::-1], 0)), 4), (((row[::-1], 0),), 1), (((row[::-1], 0),), 0), (((row, -1),), 1),
-                      (((row[1:], 0),), 1), (((row, 0, 0),), 1), (((row, 1),), 2), (((row, 0), (row, 1)), 0), ("ab", 1)]
+                      (((row[1:], 0),), 1), (((row, 0, 0),), 1), (((row, 1),), 2), (((row, 0), (row, 1)), 0), ("ab", 1),
+                      (((row, 0), None), 1), (((row, 0), (row, 9)), 1)]
             others += [(knowledge, max(0, rank + more)) for knowledge, rank in table for more in (-1, 1)]
             others += [(knowledge, 10 ** 39) for knowledge, _ in table[:2]]
             for spoilt in spoilt_tables(table, chance, others):
